@@ -4,16 +4,10 @@ import unittest
 import kinds
 from jughouse.errors import BadHouse
 from jughouse.houses import House
-from jughouse.moves import Empty, Fill, Move, Pour
+from jughouse.moves import Fill, Move, Pour
+from walks import shown
 
 HOUSES = [[1], [7], [60], [3, 5], [5, 3], [4, 4], [60, 1], [8, 5, 3], [1, 1, 1], [1, 2, 3, 4], [3, 1, 2, 1]]
-
-
-def shown(move):
-    """A move as a plain tuple: its sort and its jugs."""
-    if type(move) is Pour:
-        return ("pour", move.one, move.other)
-    return ({Fill: "fill", Empty: "empty"}[type(move)], move.jug)
 
 
 class Made(unittest.TestCase):

@@ -115,6 +115,34 @@ class Language(unittest.TestCase):
                     self.assertIsNone(node.args.kwarg)
                     self.assertEqual(node.args.kwonlyargs, [])
 
+    def test_one_target_and_one_walk(self):
+        for place, node in self.each_node():
+            with self.subTest(place):
+                if isinstance(node, ast.Assign):
+                    self.assertEqual(len(node.targets), 1)
+                    self.assertIsInstance(node.targets[0], (ast.Name, ast.Attribute, ast.Subscript))
+                if isinstance(node, ast.ListComp):
+                    self.assertEqual(len(node.generators), 1)
+                    self.assertLessEqual(len(node.generators[0].ifs), 1)
+
+    def test_no_local_is_called_like_a_class_or_an_import(self):
+        for file in FILES:
+            nodes = list(ast.walk(ast.parse(file.read_text("utf-8"))))
+            taken = {node.name for node in nodes if isinstance(node, (ast.ClassDef, ast.alias))}
+            given = {node.id for node in nodes if isinstance(node, ast.Name) and isinstance(node.ctx, ast.Store)}
+            given.update(node.arg for node in nodes if isinstance(node, ast.arg))
+            self.assertEqual(taken & given, set(), file.name)
+
+    def test_no_two_files_draw_from_one_another(self):
+        drawn = {}
+        for file in FILES:
+            nodes = ast.walk(ast.parse(file.read_text("utf-8")))
+            drawn[f"jughouse.{file.stem}"] = {node.module for node in nodes if isinstance(node, ast.ImportFrom)}
+        while drawn:
+            ready = {name for name in drawn if not drawn[name] & drawn.keys()}
+            self.assertTrue(ready, drawn)
+            drawn = {name: drawn[name] for name in drawn if name not in ready}
+
     def test_no_name_is_a_method_here_and_a_value_there(self):
         methods, given = set(), set()
         for place, node in self.each_node():

@@ -4,32 +4,9 @@ import kinds
 from jughouse.errors import BadMove, BadState
 from jughouse.houses import House
 from jughouse.moves import Empty, Fill, Move, Pour, done_all
+from walks import drop_by_drop, with_jug
 
 SMALL = [[1], [5], [3, 5], [2, 2], [4, 1], [4, 3, 2], [1, 1, 5], [2, 1, 3, 2]]
-
-
-def drop_by_drop(sizes, state, one, other):
-    """A pour done one unit at a time, to hold against the program's."""
-    held = list(state)
-    while held[one] > 0 and held[other] < sizes[other]:
-        held[one] -= 1
-        held[other] += 1
-    return tuple(held)
-
-
-def with_jug(state, jug, many):
-    return state[:jug] + (many,) + state[jug + 1:]
-
-
-def wrong_states(house):
-    """What is no state of the house, whatever its kind."""
-    empty = house.empty()
-    full = tuple(house.sizes())
-    wrongs = kinds.no_tuples() + [list(empty), (), empty + (0,), empty[1:], empty + full, (empty,)]
-    for jug, size in enumerate(full):
-        wrongs.extend(with_jug(empty, jug, many) for many in [-1, size + 1, kinds.HUGE, -kinds.HUGE])
-        wrongs.extend(with_jug(empty, jug, wrong) for wrong in kinds.no_numbers())
-    return wrongs
 
 
 class Classes(unittest.TestCase):
@@ -165,7 +142,7 @@ class DoneRefused(unittest.TestCase):
 
     def test_no_state(self):
         for house in [House([3], True), House([3, 5], True), House([2, 2, 2], True), House([1, 2, 3, 4], True)]:
-            for place, wrong in enumerate(wrong_states(house)):
+            for place, wrong in enumerate(kinds.no_states(house)):
                 for move in [house.moves()[0], Fill(0), Empty(0)]:
                     with self.subTest(place), self.assertRaises(BadState):
                         move.done(house, wrong)
@@ -177,7 +154,7 @@ class DoneRefused(unittest.TestCase):
 
     def test_bad_state_comes_ahead_of_bad_move(self):
         dry = House([3, 5], False)
-        for place, wrong in enumerate(wrong_states(dry)):
+        for place, wrong in enumerate(kinds.no_states(dry)):
             for move in [Fill(0), Empty(1), Fill(3), Pour(0, 2), Pour(3, 1)]:
                 with self.subTest(place), self.assertRaises(BadState):
                     move.done(dry, wrong)
@@ -225,11 +202,7 @@ class DoneAll(unittest.TestCase):
 
 class DoneAllRefused(unittest.TestCase):
     def wrong_lists(self):
-        wrongs = kinds.no_lists()
-        others = kinds.no_containers() + [0, [], [Pour(0, 1)], (), House([3, 5], True), kinds.HUGE]
-        for other in others:
-            wrongs.extend([[other], [Pour(0, 1), other], [other, Fill(0)]])
-        return wrongs + [[Move()], [Pour(0, 1), Move()], [Pour], [Fill, Empty]]
+        return kinds.no_lists_of_moves() + [[Move()], [Pour(0, 1), Move()]]
 
     def test_no_list_of_moves(self):
         house = House([3, 5], True)
@@ -246,14 +219,14 @@ class DoneAllRefused(unittest.TestCase):
 
     def test_no_state(self):
         for house in [House([3], True), House([3, 5], True), House([2, 2, 2], False), House([1, 2, 3, 4], True)]:
-            for place, wrong in enumerate(wrong_states(house)):
+            for place, wrong in enumerate(kinds.no_states(house)):
                 for moves in [[], house.moves(), house.moves()[:1]]:
                     with self.subTest(place), self.assertRaises(BadState):
                         done_all(moves, house, wrong)
 
     def test_bad_state_comes_ahead_of_moves_that_the_house_has_not(self):
         dry = House([3, 5], False)
-        for place, wrong in enumerate(wrong_states(dry)):
+        for place, wrong in enumerate(kinds.no_states(dry)):
             for moves in [[Fill(0)], [Pour(0, 3)], [Pour(0, 1), Empty(1)], [Fill(3)]]:
                 with self.subTest(place), self.assertRaises(BadState):
                     done_all(moves, dry, wrong)
