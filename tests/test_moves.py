@@ -159,6 +159,12 @@ class DoneRefused(unittest.TestCase):
                 with self.subTest(place), self.assertRaises(BadState):
                     move.done(dry, wrong)
 
+    def test_a_move_that_is_none_of_the_sorts(self):
+        with self.assertRaises(BadMove):
+            Move().done(House([3, 5], True), (0, 0))
+        with self.assertRaises(BadState):
+            Move().done(House([3, 5], True), (0, 6))
+
     def test_a_state_of_another_house(self):
         with self.assertRaises(BadState):
             Pour(0, 1).done(House([3, 5], True), (5, 3))
